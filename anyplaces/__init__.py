@@ -1,0 +1,1 @@
+"""Machine words at any places, lost and wrong ones told again."""
