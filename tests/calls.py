@@ -1,0 +1,69 @@
+"""For each function of the interface that is built: its file, its arguments by name, and right ones to call it with."""
+
+from anyplaces.alike import are_alike, exchange, first_alike, how_many_alike, parting_level
+from anyplaces.codes import codeword, coefficients_of, is_codeword, items_of, misfit
+from anyplaces.kinds import (
+    is_known, is_places, is_width, is_word, is_words, parting_places, twos_in, word_at, words_at,
+)
+from anyplaces.orders import good_order, how_many_even, is_good_order, least_twos, places_with, uneven_branch
+from anyplaces.sizes import (
+    codeword_at, codeword_number, full_count, how_many_codewords, item_count, item_widths, width_for,
+)
+from anyplaces.telling import bit_rows, first_base, hidden, is_base, is_telling
+
+FILES = {
+    "anyplaces.kinds": [
+        is_known, is_places, is_width, is_word, is_words, parting_places, twos_in, word_at, words_at,
+    ],
+    "anyplaces.orders": [good_order, how_many_even, is_good_order, least_twos, places_with, uneven_branch],
+    "anyplaces.alike": [are_alike, exchange, first_alike, how_many_alike, parting_level],
+    "anyplaces.codes": [codeword, coefficients_of, is_codeword, items_of, misfit],
+    "anyplaces.sizes": [
+        codeword_at, codeword_number, full_count, how_many_codewords, item_count, item_widths, width_for,
+    ],
+    "anyplaces.telling": [bit_rows, first_base, hidden, is_base, is_telling],
+}
+
+
+def right_calls():
+    """Ordinary calls, their arguments in the order in which the document writes them."""
+    four = [0, 1, 2, 4]
+    return [
+        (is_width, {"value": 5}),
+        (is_word, {"width": 3, "value": 5}),
+        (is_places, {"width": 3, "value": [0, 5]}),
+        (is_words, {"width": 3, "places": [0, 5], "value": [1, 1]}),
+        (is_known, {"width": 3, "places": [0, 5], "value": [(5, 1)]}),
+        (twos_in, {"number": 24}),
+        (word_at, {"width": 3, "coefficients": [1, 2, 3], "number": 5}),
+        (words_at, {"width": 3, "coefficients": [1, 2, 3], "places": [0, 1, 5]}),
+        (parting_places, {"width": 3, "places": [0, 5], "words": [1, 2], "others": [1, 3]}),
+        (good_order, {"width": 4, "places": list(four)}),
+        (is_good_order, {"width": 4, "places": list(four), "value": [4, 1, 2, 0]}),
+        (least_twos, {"width": 4, "places": list(four), "many": 3}),
+        (uneven_branch, {"width": 4, "places": list(four)}),
+        (how_many_even, {"width": 4, "many": 3}),
+        (places_with, {"width": 4, "numbers": [0, 0, 1, 3]}),
+        (are_alike, {"width": 3, "one": list(four), "other": [3, 4, 5, 7]}),
+        (exchange, {"width": 3, "one": list(four), "other": [3, 4, 5, 7]}),
+        (parting_level, {"width": 4, "one": list(four), "other": [0, 1, 2, 9]}),
+        (how_many_alike, {"width": 4, "places": list(four)}),
+        (first_alike, {"width": 3, "places": [3, 4, 5, 7]}),
+        (codeword, {"width": 3, "places": list(four), "count": 3, "items": [1, 2, 3]}),
+        (items_of, {"width": 3, "places": list(four), "count": 3, "words": [0, 1, 4, 0]}),
+        (is_codeword, {"width": 3, "places": list(four), "count": 3, "value": [0, 1, 4, 0]}),
+        (misfit, {"width": 3, "places": list(four), "count": 2, "words": [0, 1, 4, 0]}),
+        (coefficients_of, {"width": 3, "places": list(four), "count": 3, "items": [1, 2, 3]}),
+        (item_count, {"width": 3, "places": list(four), "count": 3}),
+        (how_many_codewords, {"width": 3, "places": list(four), "count": 3}),
+        (full_count, {"width": 3, "places": list(four)}),
+        (codeword_number, {"width": 3, "places": list(four), "count": 3, "words": [0, 1, 4, 0]}),
+        (codeword_at, {"width": 3, "places": list(four), "count": 3, "number": 99}),
+        (item_widths, {"places": list(four), "count": 3}),
+        (width_for, {"places": list(four), "count": 3, "many": 9}),
+        (is_telling, {"width": 3, "places": list(four), "count": 2, "part": [0, 2, 4]}),
+        (hidden, {"width": 3, "places": list(four), "count": 2, "part": [0, 2, 4]}),
+        (bit_rows, {"width": 3, "places": list(four), "count": 4}),
+        (is_base, {"width": 3, "places": list(four), "count": 2, "value": [1, 4]}),
+        (first_base, {"width": 3, "places": list(four), "count": 2, "part": [1, 2, 4]}),
+    ]

@@ -1,0 +1,163 @@
+import copy
+import inspect
+import random
+import time
+import unittest
+
+from anyplaces.alike import are_alike, exchange, first_alike, how_many_alike, parting_level
+from anyplaces.codes import codeword, coefficients_of, is_codeword, items_of, misfit
+from anyplaces.kinds import is_known, is_places, is_words, parting_places, words_at
+from anyplaces.orders import good_order, how_many_even, is_good_order, least_twos, places_with, uneven_branch
+from anyplaces.sizes import (
+    codeword_at, codeword_number, full_count, how_many_codewords, item_count, item_widths, width_for,
+)
+from anyplaces.telling import bit_rows, first_base, hidden, is_base, is_telling
+from tests.calls import FILES, right_calls
+from tests.wrong import GREATEST
+
+
+def lists_in(value):
+    """All list objects within a value, each as often as it occurs."""
+    if not isinstance(value, (list, tuple)):
+        return []
+    own = [value] if isinstance(value, list) else []
+    return own + [inner for item in value for inner in lists_in(item)]
+
+
+class TestInterface(unittest.TestCase):
+    def test_all_functions_are_called(self):
+        called = {function for function, _ in right_calls()}
+        self.assertEqual(called, {function for functions in FILES.values() for function in functions})
+
+    def test_defined_in_their_files(self):
+        for name, functions in FILES.items():
+            for function in functions:
+                self.assertEqual(function.__module__, name)
+
+    def test_names_of_arguments(self):
+        for function, arguments in right_calls():
+            self.assertEqual(list(inspect.signature(function).parameters), list(arguments), function.__name__)
+
+    def test_by_position_and_by_name(self):
+        for function, arguments in right_calls():
+            by_position = function(*arguments.values())
+            self.assertEqual(function(**arguments), by_position, function.__name__)
+            first, *rest = arguments
+            mixed = function(arguments[first], **{name: arguments[name] for name in rest})
+            self.assertEqual(mixed, by_position, function.__name__)
+
+
+class TestLists(unittest.TestCase):
+    def test_arguments_stay(self):
+        for function, arguments in right_calls():
+            before = copy.deepcopy(arguments)
+            function(**arguments)
+            self.assertEqual(arguments, before, function.__name__)
+
+    def test_answers_are_new(self):
+        for function, arguments in right_calls():
+            answer = function(**arguments)
+            kept = copy.deepcopy(answer)
+            found = lists_in(answer)
+            handed = [inner for value in arguments.values() for inner in lists_in(value)]
+            places = [id(one) for one in found]
+            self.assertEqual(len(places), len(set(places)), function.__name__)
+            self.assertFalse(set(places) & {id(one) for one in handed}, function.__name__)
+            for one in found:
+                one.append("changed")
+                one.reverse()
+            again = function(**arguments)
+            self.assertEqual(again, kept, function.__name__)
+            self.assertEqual(again.__class__, kept.__class__)
+
+    def test_kinds_of_answers(self):
+        # what tells whether something is so is a Boolean, and nothing else is one
+        whether = {"are_alike"}
+        for function, arguments in right_calls():
+            answer = function(**arguments)
+            told = function.__name__.startswith("is_") or function.__name__ in whether
+            self.assertIs(isinstance(answer, bool), told, function.__name__)
+
+
+def greatest_places():
+    chance = random.Random(11)
+    return [
+        list(range(64)),
+        list(range(2 ** 64 - 64, 2 ** 64)),
+        [k * 2 ** 58 for k in range(64)],
+        [2 ** k - 1 for k in range(1, 65)],
+        sorted([(k // 2) * 2 ** 59 + k % 2 for k in range(64)]),
+        sorted({chance.getrandbits(64) for _ in range(64)}),
+    ]
+
+
+class TestGreatest(unittest.TestCase):
+    SECONDS = 5
+
+    def quick(self, function, *arguments):
+        begun = time.monotonic()
+        answer = function(*arguments)
+        self.assertLess(time.monotonic() - begun, self.SECONDS, function.__name__)
+        return answer
+
+    def test_kinds(self):
+        coefficients = [GREATEST, -GREATEST] * 32
+        for places in greatest_places():
+            self.assertTrue(self.quick(is_places, 64, places))
+            words = self.quick(words_at, 64, coefficients, places)
+            self.assertTrue(self.quick(is_words, 64, places, words))
+            self.assertTrue(self.quick(is_known, 64, places, list(zip(places, words))))
+            self.assertEqual(self.quick(parting_places, 64, places, words, words), [])
+
+    def test_orders(self):
+        for places in greatest_places():
+            order, numbers = self.quick(good_order, 64, places)
+            self.assertTrue(self.quick(is_good_order, 64, places, order))
+            self.assertEqual(self.quick(least_twos, 64, places, 64), sum(numbers))
+            self.quick(uneven_branch, 64, places)
+            first = self.quick(places_with, 64, good_order(64, places[:8])[1])
+            self.assertEqual(len(first), 8)
+        for many in range(65):
+            self.assertGreater(self.quick(how_many_even, 64, many), 0)
+        for behind in [[0, 1, 1, 3, 3, 4, 4], [0, 1, 3, 7, 9, 12, 15], [0, 1, 2, 3, 4, 5, 6], [0, 63, 66, 70, 90, 95, 99]]:
+            self.quick(places_with, 64, [0] + behind)
+
+    def test_alike(self):
+        for places in greatest_places():
+            other = sorted((5 * place + 7) % 2 ** 64 for place in places)
+            self.assertTrue(self.quick(are_alike, 64, places, other))
+            self.assertEqual(len(self.quick(exchange, 64, places, other)), 64)
+            self.assertIsNone(self.quick(parting_level, 64, places, other))
+            self.assertGreater(self.quick(how_many_alike, 64, places), 0)
+            self.assertEqual(self.quick(first_alike, 64, places), first_alike(64, other))
+
+    def test_codes(self):
+        for places in greatest_places():
+            for count in [64, GREATEST]:
+                total = self.quick(how_many_codewords, 64, places, count)
+                words = self.quick(codeword_at, 64, places, count, total - 1)
+                items = self.quick(items_of, 64, places, count, words)
+                self.assertEqual(len(items), self.quick(item_count, 64, places, count))
+                self.assertEqual(self.quick(codeword, 64, places, count, items), words)
+                self.assertTrue(self.quick(is_codeword, 64, places, count, words))
+                self.assertIsNone(self.quick(misfit, 64, places, count, words))
+                self.assertEqual(self.quick(codeword_number, 64, places, count, words), total - 1)
+                coefficients = self.quick(coefficients_of, 64, places, count, items)
+                self.assertEqual(words_at(64, coefficients, places), words)
+                self.assertEqual(len(self.quick(item_widths, places, count)), 64)
+                self.assertIsNone(self.quick(width_for, places, count, GREATEST))
+            self.assertEqual(self.quick(full_count, 64, places), len(items))
+
+    def test_telling(self):
+        for places in greatest_places():
+            for count in [20, 64, GREATEST]:
+                self.assertTrue(self.quick(is_telling, 64, places, count, places))
+                self.assertIsNone(self.quick(hidden, 64, places, count, places))
+                self.assertTrue(any(self.quick(hidden, 64, places, count, places[:1])))
+                base = self.quick(first_base, 64, places, count, places)
+                self.assertTrue(self.quick(is_base, 64, places, count, base))
+                self.assertEqual(len(self.quick(bit_rows, 64, places, count)), len(base))
+
+
+if __name__ == "__main__":
+    unittest.main()
