@@ -1,7 +1,7 @@
 """Refusing wrong arguments, each by the error of its kind."""
 
-from anyplaces.errors import InvalidNumber, InvalidPlaces, InvalidWidth, InvalidWords
-from anyplaces.values import are_places, are_some_of, are_words_at, fits_width, is_count, is_whole
+from anyplaces.errors import InvalidKnown, InvalidNumber, InvalidPlaces, InvalidWidth, InvalidWords
+from anyplaces.values import are_known, are_places, are_some_of, are_words_at, fits_width, is_count, is_one_of, is_whole
 
 
 def need_width(width):
@@ -38,3 +38,22 @@ def need_words(width, places, words):
     """Raises InvalidWords unless these are words of the width at the places."""
     if not are_words_at(width, places, words):
         raise InvalidWords(words)
+
+
+def need_known(width, places, known):
+    """Raises InvalidKnown unless these are known words of the places."""
+    if not are_known(width, places, known):
+        raise InvalidKnown(known)
+
+
+def need_place(places, place):
+    """Raises InvalidNumber unless this is one of the places."""
+    if not is_one_of(places, place):
+        raise InvalidNumber(place)
+
+
+def need_code(width, places, count):
+    """Raises InvalidWidth, InvalidPlaces or InvalidNumber unless these are the three arguments of a code."""
+    need_width(width)
+    need_places(width, places)
+    need_count(count)

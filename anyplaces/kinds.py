@@ -2,7 +2,7 @@
 
 from anyplaces.demands import need_places, need_whole, need_width, need_words
 from anyplaces.errors import InvalidItems
-from anyplaces.values import are_known, are_places, are_wholes, are_words_at, fits_width, fits_word
+from anyplaces.values import are_known, are_places, are_wholes, are_words_at, fits_width, fits_word, twos_of
 
 
 def is_width(value):
@@ -41,8 +41,7 @@ def twos_in(number):
     need_whole(number)
     if number == 0:
         return None
-    # a number and its negative have just their lowest figure 1 and the noughts behind it in common
-    return (number & -number).bit_length() - 1
+    return twos_of(number)
 
 
 def need_coefficients(coefficients):

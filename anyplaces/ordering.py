@@ -1,6 +1,6 @@
 """The good order of places and its numbers, for places that are right already."""
 
-from anyplaces.kinds import twos_in
+from anyplaces.values import twos_of
 
 
 def costs_at_first(places):
@@ -10,7 +10,7 @@ def costs_at_first(places):
 
 def costs_behind(costs, taken):
     """Returns what the places that are left bring, once one of them is taken."""
-    return {place: cost + twos_in(place - taken) for place, cost in costs.items() if place != taken}
+    return {place: cost + twos_of(place - taken) for place, cost in costs.items() if place != taken}
 
 
 def ordered(places):

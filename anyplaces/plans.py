@@ -1,24 +1,23 @@
 """What width, places and count fix of a code, and reading words off along the good order."""
 
-from anyplaces.demands import need_count, need_places, need_width
+from anyplaces.demands import need_code
 from anyplaces.ordering import how_many_items, ordered
 
 
 class Plan:
-    """A code: its width, its places in their good order with their numbers, and how many items it has."""
+    """A code: its width, its places in their good order with their numbers, its count, and how many items it has."""
 
     def __init__(self, width, places, count):
         self.width = width
         self.places = places
+        self.count = count
         self.order, self.numbers = ordered(places)
         self.many = how_many_items(width, self.numbers, count)
 
 
 def plan_of(width, places, count):
     """Returns the plan of a code, whose three arguments are refused in their order."""
-    need_width(width)
-    need_places(width, places)
-    need_count(count)
+    need_code(width, places, count)
     return Plan(width, places, count)
 
 

@@ -29,6 +29,17 @@ def fits_word(width, value):
     return is_between(value, 0, (1 << width) - 1)
 
 
+def twos_of(number):
+    """Returns the twos of a whole number that is not 0."""
+    # a number and its negative have just their lowest figure 1 and the noughts behind it in common
+    return (number & -number).bit_length() - 1
+
+
+def is_one_of(places, value):
+    """Returns whether a value is one of the places."""
+    return is_whole(value) and value in places
+
+
 def are_wholes(value):
     """Returns whether a value is a list of whole numbers, perhaps empty."""
     return isinstance(value, list) and all([is_whole(number) for number in value])
@@ -68,7 +79,7 @@ def is_known_word(width, places, value):
     """Returns whether a value is a tuple of one of the places and a word of the width."""
     if not isinstance(value, tuple) or len(value) != 2:
         return False
-    return is_whole(value[0]) and value[0] in places and fits_word(width, value[1])
+    return is_one_of(places, value[0]) and fits_word(width, value[1])
 
 
 def are_known(width, places, value):
@@ -76,3 +87,8 @@ def are_known(width, places, value):
     if not isinstance(value, list) or not all([is_known_word(width, places, one) for one in value]):
         return False
     return climbs([one[0] for one in value])
+
+
+def are_prices(places, value):
+    """Returns whether a value is a list of as many counts as there are places."""
+    return isinstance(value, list) and len(value) == len(places) and all([is_count(price) for price in value])

@@ -1,7 +1,13 @@
 """For each function of the interface that is built: its file, its arguments by name, and right ones to call it with."""
 
 from anyplaces.alike import are_alike, exchange, first_alike, how_many_alike, parting_level
+from anyplaces.bases import (
+    all_bases, always_read, base_numbered, cheapest_base, how_many_bases, is_cheapest, put_in_for, splits,
+    telling_counts,
+)
+from anyplaces.bits import bits_told, closure, low_bits, low_by_low, possible, told_bits, untold
 from anyplaces.codes import codeword, coefficients_of, is_codeword, items_of, misfit
+from anyplaces.fitting import fit_numbered, fits, how_many_ahead, how_many_fit
 from anyplaces.kinds import (
     is_known, is_places, is_width, is_word, is_words, parting_places, twos_in, word_at, words_at,
 )
@@ -22,6 +28,12 @@ FILES = {
         codeword_at, codeword_number, full_count, how_many_codewords, item_count, item_widths, width_for,
     ],
     "anyplaces.telling": [bit_rows, first_base, hidden, is_base, is_telling],
+    "anyplaces.bases": [
+        all_bases, always_read, base_numbered, cheapest_base, how_many_bases, is_cheapest, put_in_for, splits,
+        telling_counts,
+    ],
+    "anyplaces.fitting": [fit_numbered, fits, how_many_ahead, how_many_fit],
+    "anyplaces.bits": [bits_told, closure, low_bits, low_by_low, possible, told_bits, untold],
 }
 
 
@@ -66,4 +78,24 @@ def right_calls():
         (bit_rows, {"width": 3, "places": list(four), "count": 4}),
         (is_base, {"width": 3, "places": list(four), "count": 2, "value": [1, 4]}),
         (first_base, {"width": 3, "places": list(four), "count": 2, "part": [1, 2, 4]}),
+        (put_in_for, {"width": 3, "places": list(four), "count": 2, "base": [0, 1], "place": 2}),
+        (always_read, {"width": 3, "places": list(four), "count": 3}),
+        (cheapest_base, {"width": 3, "places": list(four), "count": 2, "prices": [5, 1, 2, 2]}),
+        (is_cheapest, {"width": 3, "places": list(four), "count": 2, "prices": [5, 1, 2, 2], "value": [1, 4]}),
+        (splits, {"places": [0, 1, 2, 3], "j": 3}),
+        (how_many_bases, {"width": 3, "places": list(four), "count": 2}),
+        (telling_counts, {"width": 3, "places": list(four), "count": 2}),
+        (all_bases, {"width": 3, "places": list(four), "count": 2}),
+        (base_numbered, {"width": 3, "places": list(four), "count": 2, "number": 2}),
+        (fits, {"width": 3, "places": list(four), "count": 3, "known": [(0, 1), (1, 3)]}),
+        (how_many_fit, {"width": 3, "places": list(four), "count": 3, "known": [(0, 1), (1, 3)]}),
+        (fit_numbered, {"width": 3, "places": list(four), "count": 3, "known": [(0, 1), (1, 3)], "number": 2}),
+        (how_many_ahead, {"width": 3, "places": list(four), "count": 3, "known": [(0, 1)], "words": [1, 3, 5, 0]}),
+        (bits_told, {"width": 3, "places": list(four), "count": 3, "asked": [0, 1], "place": 4}),
+        (told_bits, {"width": 3, "places": list(four), "count": 3, "asked": [0, 1]}),
+        (possible, {"width": 3, "places": list(four), "count": 3, "known": [(0, 1), (1, 3)], "place": 2}),
+        (closure, {"width": 3, "places": list(four), "count": 3, "asked": [0, 2]}),
+        (untold, {"width": 3, "places": list(four), "count": 3, "asked": [0, 1], "place": 4}),
+        (low_bits, {"width": 3, "places": list(four), "count": 3, "asked": [0, 1]}),
+        (low_by_low, {"places": list(four), "count": 3, "asked": [0, 1]}),
     ]

@@ -124,3 +124,26 @@ def all_codewords(width, places, count):
 
 def all_words(width, places):
     return product(range(2 ** width), repeat=len(places))
+
+
+def best_parts(places, j):
+    """All parts of j places whose differences have as few twos as can be, in order."""
+    parts = [list(part) for part in combinations(places, j)]
+    least = min([all_twos(part) for part in parts], default=0)
+    return [part for part in parts if all_twos(part) == least]
+
+
+def words_at_part(words, places, part):
+    return tuple(words[places.index(place)] for place in part)
+
+
+def with_known(listed, places, known):
+    """All codewords of a list that have the known words, in order."""
+    told = tuple(word for _, word in known)
+    part = [place for place, _ in known]
+    return sorted(words for words in listed if words_at_part(words, places, part) == told)
+
+
+def alike_bits(width, words):
+    """How many of the lowest bits are the same in all of the words."""
+    return max(j for j in range(width + 1) if len({word % 2 ** j for word in words}) <= 1)

@@ -5,7 +5,14 @@ import time
 import unittest
 
 from anyplaces.alike import are_alike, exchange, first_alike, how_many_alike, parting_level
+from anyplaces.bases import (
+    all_bases, always_read, base_numbered, cheapest_base, how_many_bases, is_cheapest, put_in_for, splits,
+    telling_counts,
+)
+from anyplaces.bits import bits_told, closure, low_bits, low_by_low, possible, told_bits, untold
 from anyplaces.codes import codeword, coefficients_of, is_codeword, items_of, misfit
+from anyplaces.errors import TooMany
+from anyplaces.fitting import fit_numbered, fits, how_many_ahead, how_many_fit
 from anyplaces.kinds import is_known, is_places, is_words, parting_places, words_at
 from anyplaces.orders import good_order, how_many_even, is_good_order, least_twos, places_with, uneven_branch
 from anyplaces.sizes import (
@@ -72,7 +79,7 @@ class TestLists(unittest.TestCase):
 
     def test_kinds_of_answers(self):
         # what tells whether something is so is a Boolean, and nothing else is one
-        whether = {"are_alike"}
+        whether = {"are_alike", "fits"}
         for function, arguments in right_calls():
             answer = function(**arguments)
             told = function.__name__.startswith("is_") or function.__name__ in whether
@@ -157,6 +164,57 @@ class TestGreatest(unittest.TestCase):
                 base = self.quick(first_base, 64, places, count, places)
                 self.assertTrue(self.quick(is_base, 64, places, count, base))
                 self.assertEqual(len(self.quick(bit_rows, 64, places, count)), len(base))
+
+    def test_bases(self):
+        for places in greatest_places():
+            for count in [3, 20, 40, GREATEST]:
+                base = first_base(64, places, count, places)
+                for place in [one for one in places if one not in base][-3:]:
+                    self.assertTrue(self.quick(put_in_for, 64, places, count, base, place))
+                self.assertLessEqual(set(self.quick(always_read, 64, places, count)), set(base))
+                prices = [GREATEST - place % 7 for place in places]
+                total, cheapest = self.quick(cheapest_base, 64, places, count, prices)
+                self.assertTrue(self.quick(is_cheapest, 64, places, count, prices, cheapest))
+                self.assertEqual(total, sum(prices[places.index(place)] for place in cheapest))
+                many = self.quick(how_many_bases, 64, places, count)
+                self.assertEqual(self.quick(telling_counts, 64, places, count)[len(base)], many)
+                last = self.quick(base_numbered, 64, places, count, many - 1)
+                self.assertEqual(self.quick(base_numbered, 64, places, count, 0), base)
+                if many <= 2000:
+                    bases = self.quick(all_bases, 64, places, count)
+                    self.assertEqual([len(bases), bases[0], bases[-1]], [many, base, last])
+                else:
+                    self.assertRaises(TooMany, all_bases, 64, places, count)
+            for j in range(65):
+                self.quick(splits, places, j)
+
+    def test_fitting(self):
+        for places in greatest_places():
+            for count in [3, 40, 64, GREATEST]:
+                words = codeword_at(64, places, count, how_many_codewords(64, places, count) * 2 // 3)
+                for asked in [[], places[1:2], places[7:50:5], places]:
+                    known = [(place, words[places.index(place)]) for place in asked]
+                    self.assertTrue(self.quick(fits, 64, places, count, known))
+                    many = self.quick(how_many_fit, 64, places, count, known)
+                    number = self.quick(how_many_ahead, 64, places, count, known, words)
+                    self.assertLess(number, many)
+                    self.assertEqual(self.quick(fit_numbered, 64, places, count, known, number), words)
+                    self.assertTrue(self.quick(is_codeword, 64, places, count, fit_numbered(64, places, count, known, 0)))
+
+    def test_bits(self):
+        for places in greatest_places():
+            for count in [3, 40, GREATEST]:
+                for asked in [[], places[1:2], places[7:50:5], places]:
+                    told = self.quick(told_bits, 64, places, count, asked)
+                    self.assertEqual(self.quick(bits_told, 64, places, count, asked, places[9]), told[9])
+                    self.assertEqual(self.quick(low_bits, 64, places, count, asked), min(told))
+                    whole = self.quick(closure, 64, places, count, asked)
+                    self.assertEqual(whole, [place for place, bits in zip(places, told) if bits == 64])
+                    words = self.quick(untold, 64, places, count, asked, places[-1])
+                    self.assertIs(words is None, places[-1] in whole)
+                    known = [(place, 0) for place in asked]
+                    self.assertEqual(self.quick(possible, 64, places, count, known, places[9]), (0, told[9]))
+                    self.quick(low_by_low, places, count, asked)
 
 
 if __name__ == "__main__":

@@ -1,0 +1,59 @@
+"""Codewords that have known words: whether there are any, how many, and which one has a number."""
+
+from anyplaces.demands import need_code, need_count, need_known, need_words
+from anyplaces.errors import InvalidNumber
+from anyplaces.plans import plan_of
+from anyplaces.reading import Reading, bits_left, fit_with, fitting_reading, possible_at
+
+
+def fits(width, places, count, known):
+    """Returns whether a codeword has the known words."""
+    need_code(width, places, count)
+    need_known(width, places, known)
+    return Reading(width, count, dict(known)).found is not None
+
+
+def how_many_fit(width, places, count, known):
+    """Returns how many codewords have the known words."""
+    plan = plan_of(width, places, count)
+    need_known(width, places, known)
+    reading = Reading(width, count, dict(known))
+    if reading.found is None:
+        return 0
+    return 1 << bits_left(plan, reading.plan)
+
+
+def fit_numbered(width, places, count, known, number):
+    """Returns the codeword with the known words that has so many such codewords ahead of it."""
+    plan = plan_of(width, places, count)
+    need_known(width, places, known)
+    need_count(number)
+    reading = fitting_reading(plan, known)
+    if number >= 1 << bits_left(plan, reading.plan):
+        raise InvalidNumber(number)
+    return fit_with(plan, known, number)
+
+
+def how_many_ahead(width, places, count, known, words):
+    """Returns how many codewords with the known words are ahead of a list of words."""
+    plan = plan_of(width, places, count)
+    need_known(width, places, known)
+    need_words(width, places, words)
+    told = dict(known)
+    reading = Reading(width, count, told)
+    if reading.found is None:
+        return 0
+    ahead = 0
+    left = bits_left(plan, reading.plan)
+    for place, word in zip(places, words):
+        least, bits = possible_at(reading, place)
+        step = 1 << bits
+        left -= width - bits
+        # the least word and so many more ones, each a step further, are below the word
+        ahead += ((word - least + step - 1) >> bits) << left
+        if (word - least) & (step - 1):
+            return ahead
+        if bits < width:
+            told[place] = word
+            reading = Reading(width, count, told)
+    return ahead

@@ -1,0 +1,66 @@
+"""What words at some places tell of the words at others."""
+
+from anyplaces.errors import Unfit
+from anyplaces.plans import Plan, item_bits, read_off, word_of_items
+from anyplaces.values import twos_of
+
+
+class Reading:
+    """Words at some places: the plan of these places alone, and the items that the words have there.
+
+    There are no items if no codeword has the words; then misfit is the first place that shows it.
+    """
+
+    def __init__(self, width, count, told):
+        self.plan = Plan(width, sorted(told), count)
+        self.found, self.misfit = read_off(self.plan, [told[place] for place in self.plan.places])
+
+
+def fitting_reading(plan, known):
+    """Returns the reading of known words of a code; raises Unfit if no codeword has them."""
+    reading = Reading(plan.width, plan.count, dict(known))
+    if reading.found is None:
+        raise Unfit(reading.misfit)
+    return reading
+
+
+def bits_left(plan, asked_plan):
+    """Returns how many bits are free in codewords, once the words at the places of another plan are told."""
+    return sum(item_bits(plan)) - sum(item_bits(asked_plan))
+
+
+def told_at(plan, place):
+    """Returns how many of the lowest bits of the word at any place the words at the places of a plan tell."""
+    told = plan.width
+    twos = 0
+    for number, other in list(zip(plan.numbers, plan.order))[:plan.count]:
+        told = min(told, twos + max(0, plan.width - number))
+        if other == place:
+            # all further products are 0 there
+            return told
+        twos += twos_of(place - other)
+    if len(plan.order) < plan.count:
+        told = min(told, twos)
+    return told
+
+
+def possible_at(reading, place):
+    """Returns the least word that can stand at a place, and how many of its lowest bits are told."""
+    bits = told_at(reading.plan, place)
+    word = word_of_items(reading.plan, reading.found, place)
+    return word & ((1 << bits) - 1), bits
+
+
+def fit_with(plan, known, number):
+    """Returns the codeword with known words, which fit, that has so many such codewords ahead of it."""
+    told = dict(known)
+    reading = fitting_reading(plan, known)
+    left = bits_left(plan, reading.plan)
+    for place in plan.places:
+        word, bits = possible_at(reading, place)
+        free = plan.width - bits
+        if free > 0:
+            left -= free
+            told[place] = word + ((number >> left & ((1 << free) - 1)) << bits)
+            reading = Reading(plan.width, plan.count, told)
+    return [word_of_items(reading.plan, reading.found, place) for place in plan.places]
