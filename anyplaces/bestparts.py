@@ -49,3 +49,24 @@ def counts_with(branch, j, many):
 
     packed = for_best_parts(branch, [j], of_place, of_halves)[j]
     return [packed >> bits * size & ((1 << bits) - 1) for size in range(many + 1)]
+
+
+def lost_parts(branch, wanted):
+    """Returns a dict: for each wanted j a list of as few places as can be whose loss leaves no best part of j places.
+
+    For j 0 there is none: no loss takes the empty part away.
+    """
+    def of_place(place):
+        return {0: None, 1: [place]}
+
+    def of_halves(evens, odds, many, ways):
+        i = ways[0]
+        if len(ways) == 1:
+            choices = [evens[i], odds[many - i]]
+        else:
+            # either way can go on as long as one half can give more, and the other one what is left
+            choices = [evens[i], odds[many - i - 1], evens[i + 1] + odds[many - i]]
+        found = [lost for lost in choices if lost is not None]
+        return min(found, key=len) if found else None
+
+    return for_best_parts(branch, wanted, of_place, of_halves)

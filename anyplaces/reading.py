@@ -51,6 +51,11 @@ def possible_at(reading, place):
     return word & ((1 << bits) - 1), bits
 
 
+def words_from(reading, places):
+    """Returns the words at places of a codeword with the words that were read; if these are telling, the only one."""
+    return [word_of_items(reading.plan, reading.found, place) for place in places]
+
+
 def fit_with(plan, known, number):
     """Returns the codeword with known words, which fit, that has so many such codewords ahead of it."""
     told = dict(known)
@@ -63,4 +68,4 @@ def fit_with(plan, known, number):
             left -= free
             told[place] = word + ((number >> left & ((1 << free) - 1)) << bits)
             reading = Reading(plan.width, plan.count, told)
-    return [word_of_items(reading.plan, reading.found, place) for place in plan.places]
+    return words_from(reading, plan.places)

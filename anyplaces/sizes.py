@@ -4,7 +4,7 @@ from anyplaces.demands import need_count, need_places, need_width
 from anyplaces.errors import InvalidNumber, InvalidWords
 from anyplaces.ordering import how_many_items, ordered
 from anyplaces.plans import item_bits, plan_of, read_off, words_of_items
-from anyplaces.values import WIDEST, are_words_at, is_between
+from anyplaces.values import WIDEST, are_words_at, is_between, widths_of
 
 
 def item_count(width, places, count):
@@ -71,7 +71,7 @@ def width_for(places, count, many):
     need_count(count)
     need_count(many)
     numbers = ordered(places)[1][:count]
-    for width in range(max(1, places[-1].bit_length()), WIDEST + 1):
+    for width in widths_of(places):
         if bits_at(width, numbers) >= many:
             return width
     return None

@@ -38,17 +38,22 @@ def is_telling(width, places, count, part):
     return tells_all(plan, part)
 
 
-def hidden(width, places, count, part):
-    """Returns a codeword that has not only 0, but only 0 at the part; None if the part is telling."""
-    plan = plan_of(width, places, count)
-    need_part(places, part)
+def hidden_of(plan, part):
+    """Returns a codeword that has not only 0, but only 0 at a part; None if the part is telling."""
     order, numbers = ordered(part)
     k = gap_in(plan, numbers)
     if k is None:
         return None
-    number = min(width, numbers[k]) if k < len(numbers) else width
-    mask = (1 << width) - 1
-    return [(product_at(order[:k], place) << (width - number)) & mask for place in places]
+    number = min(plan.width, numbers[k]) if k < len(numbers) else plan.width
+    mask = (1 << plan.width) - 1
+    return [(product_at(order[:k], place) << (plan.width - number)) & mask for place in plan.places]
+
+
+def hidden(width, places, count, part):
+    """Returns a codeword that has not only 0, but only 0 at the part; None if the part is telling."""
+    plan = plan_of(width, places, count)
+    need_part(places, part)
+    return hidden_of(plan, part)
 
 
 def bit_rows(width, places, count):

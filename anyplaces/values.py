@@ -65,6 +65,11 @@ def are_places(width, value):
     return are_words(width, value) and len(value) > 0 and climbs(value)
 
 
+def widths_of(places):
+    """Returns the list of all widths of which some places are words."""
+    return list(range(max(1, places[-1].bit_length()), WIDEST + 1))
+
+
 def are_words_at(width, places, value):
     """Returns whether a value is a list with a word of the width for each place."""
     return are_words(width, value) and len(value) == len(places)

@@ -7,9 +7,17 @@ from anyplaces.bases import (
 )
 from anyplaces.bits import bits_told, closure, low_bits, low_by_low, possible, told_bits, untold
 from anyplaces.codes import codeword, coefficients_of, is_codeword, items_of, misfit
+from anyplaces.distance import (
+    by_widths, distance, how_many_light, hurting, is_lightest, least_lost, lightest, neighbour_distance,
+)
 from anyplaces.fitting import fit_numbered, fits, how_many_ahead, how_many_fit
+from anyplaces.helpers import fewest_helpers, follows, helpers, is_helpers, reach, steps_needed
 from anyplaces.kinds import (
     is_known, is_places, is_width, is_word, is_words, parting_places, twos_in, word_at, words_at,
+)
+from anyplaces.lowbits import mendable_bits, mended_bits
+from anyplaces.mending import (
+    block_counts, clean_block, is_mended, mendable, mendable_left, mended, mended_known, wrong_at,
 )
 from anyplaces.orders import good_order, how_many_even, is_good_order, least_twos, places_with, uneven_branch
 from anyplaces.sizes import (
@@ -34,12 +42,22 @@ FILES = {
     ],
     "anyplaces.fitting": [fit_numbered, fits, how_many_ahead, how_many_fit],
     "anyplaces.bits": [bits_told, closure, low_bits, low_by_low, possible, told_bits, untold],
+    "anyplaces.helpers": [fewest_helpers, follows, helpers, is_helpers, reach, steps_needed],
+    "anyplaces.distance": [
+        by_widths, distance, how_many_light, hurting, is_lightest, least_lost, lightest, neighbour_distance,
+    ],
+    "anyplaces.mending": [
+        block_counts, clean_block, is_mended, mendable, mendable_left, mended, mended_known, wrong_at,
+    ],
+    "anyplaces.lowbits": [mendable_bits, mended_bits],
 }
 
 
 def right_calls():
     """Ordinary calls, their arguments in the order in which the document writes them."""
     four = [0, 1, 2, 4]
+    six = [0, 1, 2, 3, 4, 5]
+    wrong = [0, 1, 7, 3, 4, 5]
     return [
         (is_width, {"value": 5}),
         (is_word, {"width": 3, "value": 5}),
@@ -98,4 +116,29 @@ def right_calls():
         (untold, {"width": 3, "places": list(four), "count": 3, "asked": [0, 1], "place": 4}),
         (low_bits, {"width": 3, "places": list(four), "count": 3, "asked": [0, 1]}),
         (low_by_low, {"places": list(four), "count": 3, "asked": [0, 1]}),
+        (follows, {"width": 3, "places": list(four), "count": 3, "allowed": [1, 2, 4], "place": 0}),
+        (fewest_helpers, {"width": 3, "places": list(four), "count": 3, "allowed": [1, 2, 4], "place": 0}),
+        (helpers, {"width": 3, "places": list(four), "count": 3, "allowed": [1, 2, 4], "place": 0}),
+        (is_helpers, {
+            "width": 3, "places": list(four), "count": 3, "allowed": [1, 2, 4], "place": 0, "value": [2, 4]}),
+        (reach, {"places": list(four), "count": 3, "allowed": [1, 2, 4], "place": 0}),
+        (steps_needed, {"width": 64, "count": 66, "bits": 16}),
+        (distance, {"width": 3, "places": list(four), "count": 1}),
+        (hurting, {"width": 3, "places": list(four), "count": 1}),
+        (least_lost, {"places": [0, 1, 2, 3], "j": 2}),
+        (lightest, {"width": 3, "places": list(four), "count": 2}),
+        (is_lightest, {"width": 3, "places": list(four), "count": 2, "value": [0, 4, 0, 0]}),
+        (by_widths, {"places": list(four), "count": 4}),
+        (how_many_light, {"width": 3, "places": list(four), "count": 2}),
+        (neighbour_distance, {"many": 12, "items": 6}),
+        (mendable, {"width": 3, "places": list(six), "count": 2}),
+        (mended, {"width": 3, "places": list(six), "count": 2, "words": list(wrong)}),
+        (wrong_at, {"width": 3, "places": list(six), "count": 2, "words": list(wrong)}),
+        (is_mended, {"width": 3, "places": list(six), "count": 2, "words": list(wrong), "value": list(six)}),
+        (block_counts, {"width": 3, "places": list(six), "count": 2, "words": list(wrong)}),
+        (clean_block, {"width": 3, "places": list(six), "count": 2, "words": list(wrong)}),
+        (mendable_left, {"width": 3, "places": list(six), "count": 2, "left": [0, 1, 2, 4, 5]}),
+        (mended_known, {"width": 3, "places": list(six), "count": 1, "known": [(0, 7), (1, 7), (2, 6), (5, 7)]}),
+        (mendable_bits, {"width": 3, "places": list(six), "count": 4}),
+        (mended_bits, {"width": 3, "places": list(six), "count": 4, "words": list(wrong)}),
     ]

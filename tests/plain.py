@@ -147,3 +147,12 @@ def with_known(listed, places, known):
 def alike_bits(width, words):
     """How many of the lowest bits are the same in all of the words."""
     return max(j for j in range(width + 1) if len({word % 2 ** j for word in words}) <= 1)
+
+
+def unlike(words, others):
+    return len([word for word, other in zip(words, others) if word != other])
+
+
+def least_unlike(listed):
+    """The least number of places at which two unlike ones of a list differ, None for one alone."""
+    return min([unlike(one, other) for one, other in combinations(listed, 2)], default=None)

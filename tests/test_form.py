@@ -20,6 +20,8 @@ BARRED = {
     "register", "mro", "elements", "open", "input", "law", "id", "type", "vars", "dir", "eval", "exec", "exit", "help",
     "compile", "globals", "locals", "quit", "os", "gc",
 }
+# what may be imported from Python's own library, and is called by its bare name
+LIBRARY = {"math": {"comb"}, "itertools": {"combinations"}}
 NODES_BARRED = (
     ast.AsyncFunctionDef, ast.Global, ast.Lambda, ast.Try, ast.With, ast.Div, ast.MatMult, ast.GeneratorExp,
     ast.Yield, ast.YieldFrom, ast.JoinedStr, ast.Starred,
@@ -78,6 +80,10 @@ class TestNames(unittest.TestCase):
             for node in ast.walk(tree):
                 self.assertNotIsInstance(node, ast.Import, name)
                 if not isinstance(node, ast.ImportFrom):
+                    continue
+                if node.module in LIBRARY:
+                    self.assertLessEqual({one.name for one in node.names}, LIBRARY[node.module], name)
+                    self.assertEqual([one.asname for one in node.names if one.asname], [], name)
                     continue
                 self.assertTrue(node.module.startswith("anyplaces."), (name, node.module))
                 source = node.module.split(".")[1] + ".py"

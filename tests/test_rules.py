@@ -11,9 +11,17 @@ from anyplaces.bases import (
 )
 from anyplaces.bits import bits_told, closure, low_bits, low_by_low, possible, told_bits, untold
 from anyplaces.codes import codeword, coefficients_of, is_codeword, items_of, misfit
+from anyplaces.distance import (
+    by_widths, distance, how_many_light, hurting, is_lightest, least_lost, lightest, neighbour_distance,
+)
 from anyplaces.errors import TooMany
 from anyplaces.fitting import fit_numbered, fits, how_many_ahead, how_many_fit
+from anyplaces.helpers import fewest_helpers, follows, helpers, is_helpers, reach, steps_needed
 from anyplaces.kinds import is_known, is_places, is_words, parting_places, words_at
+from anyplaces.lowbits import mendable_bits, mended_bits
+from anyplaces.mending import (
+    block_counts, clean_block, is_mended, mendable, mendable_left, mended, mended_known, wrong_at,
+)
 from anyplaces.orders import good_order, how_many_even, is_good_order, least_twos, places_with, uneven_branch
 from anyplaces.sizes import (
     codeword_at, codeword_number, full_count, how_many_codewords, item_count, item_widths, width_for,
@@ -79,7 +87,7 @@ class TestLists(unittest.TestCase):
 
     def test_kinds_of_answers(self):
         # what tells whether something is so is a Boolean, and nothing else is one
-        whether = {"are_alike", "fits"}
+        whether = {"are_alike", "fits", "follows"}
         for function, arguments in right_calls():
             answer = function(**arguments)
             told = function.__name__.startswith("is_") or function.__name__ in whether
@@ -215,6 +223,61 @@ class TestGreatest(unittest.TestCase):
                     known = [(place, 0) for place in asked]
                     self.assertEqual(self.quick(possible, 64, places, count, known, places[9]), (0, told[9]))
                     self.quick(low_by_low, places, count, asked)
+
+    def test_helpers(self):
+        for places in greatest_places():
+            for count in [3, 40, GREATEST]:
+                for at in [0, 20, 63]:
+                    place = places[at]
+                    allowed = places[:at] + places[at + 1:]
+                    fewest = self.quick(fewest_helpers, 64, places, count, allowed, place)
+                    found = self.quick(helpers, 64, places, count, allowed, place)
+                    self.assertIs(self.quick(follows, 64, places, count, allowed, place), found is not None)
+                    self.assertEqual(None if found is None else len(found), fewest)
+                    told = self.quick(is_helpers, 64, places, count, allowed, place, found or allowed)
+                    self.assertIs(told, found is not None)
+                    self.assertEqual(self.quick(reach, places, count, allowed, place)[0], 0)
+        for bits in range(65):
+            self.quick(steps_needed, 64, GREATEST, bits)
+
+    def test_distance(self):
+        for places in greatest_places():
+            for count in [1, 3, 20, 40, GREATEST]:
+                least = self.quick(distance, 64, places, count)
+                self.assertEqual(len(self.quick(hurting, 64, places, count)), least)
+                words = self.quick(lightest, 64, places, count)
+                self.assertTrue(self.quick(is_lightest, 64, places, count, words))
+                self.assertEqual(len([word for word in words if word]), least)
+                self.assertGreater(self.quick(how_many_light, 64, places, count), 0)
+                self.assertEqual(self.quick(by_widths, places, count)[-1][2], least)
+            for j in range(1, 65):
+                self.assertGreater(self.quick(least_lost, places, j), 0)
+        for items in [1, 2, 10 ** 15 + 1, GREATEST // 3, GREATEST]:
+            self.assertGreater(self.quick(neighbour_distance, GREATEST, items), 0)
+
+    def test_mending(self):
+        chance = random.Random(12)
+        twelves = [sorted(chance.sample(range(2 ** bits), 12)) for bits in [4, 5, 6, 20, 60] * 2]
+        for places in twelves + [list(range(64)), list(range(2 ** 64 - 64, 2 ** 64))]:
+            for count in [1, 2, 3, 4, 6, 9, 20, 64]:
+                words = codeword_at(64, places, count, how_many_codewords(64, places, count) // 3)
+                many = self.quick(mendable, 64, places, count)
+                wrong = [word ^ (at < many) for at, word in enumerate(words)]
+                self.assertEqual(self.quick(mended, 64, places, count, wrong), words)
+                self.assertEqual(self.quick(wrong_at, 64, places, count, wrong), places[:many])
+                self.assertTrue(self.quick(is_mended, 64, places, count, wrong, words))
+                self.assertEqual(self.quick(mendable_left, 64, places, count, places), many)
+                known = list(zip(places, wrong))
+                self.assertEqual(self.quick(mended_known, 64, places, count, known), words)
+                self.assertEqual(self.quick(mendable_bits, 64, places, count)[-1], many)
+                self.assertEqual(self.quick(mended_bits, 64, places, count, wrong), (64, words))
+                for _ in range(2):
+                    anything = [chance.getrandbits(64) for _ in places]
+                    self.quick(mended, 64, places, count, anything)
+                    self.quick(mended_bits, 64, places, count, anything)
+                if len(places) == 64:
+                    counts = self.quick(block_counts, 64, places, count, wrong)
+                    self.assertEqual(counts[self.quick(clean_block, 64, places, count, wrong)], many)
 
 
 if __name__ == "__main__":
