@@ -2,7 +2,7 @@
 
 from anyplaces.branches import halves_of, rests_at, shapes_down_to
 from anyplaces.demands import need_places, need_width
-from anyplaces.kinds import twos_in
+from anyplaces.values import twos_of
 
 
 def need_two(width, one, other):
@@ -24,41 +24,66 @@ def are_alike(width, one, other):
     return same_down_to(width, one, other)
 
 
-def trails(width, places, table):
-    """Returns for each place the shapes of the branches in which it lies, from the level 0 on."""
-    shapes = shapes_down_to(width, places, table)
-    return {place: [shapes[level][place & ((1 << level) - 1)] for level in range(width + 1)] for place in places}
+def trail_of(shapes, place):
+    """Returns the shapes of the branches in which a place lies, from the level 0 on."""
+    return tuple([shapes[level][place & ((1 << level) - 1)] for level in range(len(shapes))])
 
 
-def keeps_twos(place, partner, exchanged):
-    """Returns whether a partner of a place has as many twos in its differences to the partners so far."""
-    # a partner that is taken has no number of twos in its difference to itself, so it is not taken again
-    return all([twos_in(place - ahead) == twos_in(partner - theirs) for ahead, theirs in exchanged.items()])
+def nearest_of(place, taken):
+    """Returns the one of the places taken whose difference to a place has the most twos, and how many."""
+    nearest = None
+    most = -1
+    for other in taken:
+        twos = twos_of(place - other)
+        if twos > most:
+            nearest = other
+            most = twos
+    return nearest, most
+
+
+def partner_for(place, fit, exchanged):
+    """Returns the first of those that fit a place that has as many twos in its differences as the place has."""
+    nearest, most = nearest_of(place, list(exchanged))
+    if nearest is None:
+        return fit[0]
+    # what has as many twos in its difference to the partner of the nearest one has so to all other partners, too
+    partner = exchanged[nearest]
+    return [theirs for theirs in fit if theirs != partner and twos_of(theirs - partner) == most][0]
 
 
 def exchange(width, one, other):
     """Returns the first exchange of places for others, None if there is none."""
     need_two(width, one, other)
-    if not same_down_to(width, one, other):
-        return None
     table = {}
-    trail_of_one = trails(width, one, table)
-    trail_of_other = trails(width, other, table)
+    shapes_of_one = shapes_down_to(width, one, table)
+    shapes_of_other = shapes_down_to(width, other, table)
+    if shapes_of_one[0] != shapes_of_other[0]:
+        return None
+    fitting = {}
+    for theirs in other:
+        fitting.setdefault(trail_of(shapes_of_other, theirs), []).append(theirs)
     exchanged = {}
     for place in one:
-        fit = [theirs for theirs in other if trail_of_one[place] == trail_of_other[theirs]]
         # with equal trails the rest can always be exchanged, too, so the least of these is right
-        exchanged[place] = [theirs for theirs in fit if keeps_twos(place, theirs, exchanged)][0]
+        exchanged[place] = partner_for(place, fitting[trail_of(shapes_of_one, place)], exchanged)
     return [exchanged[place] for place in one]
 
 
 def parting_level(width, one, other):
     """Returns the first level down to which places are not alike, None if they are alike."""
     need_two(width, one, other)
-    for level in range(width + 1):
-        if not same_down_to(level, one, other):
-            return level
-    return None
+    if same_down_to(width, one, other):
+        return None
+    # what is alike down to a level is so down to all levels ahead of it, so halving finds the first one
+    least = 0
+    most = width
+    while least < most:
+        level = (least + most) // 2
+        if same_down_to(level, one, other):
+            least = level + 1
+        else:
+            most = level
+    return least
 
 
 def how_many_alike(width, places):

@@ -101,6 +101,28 @@ def alike_down_to(level, one, other):
     return any(together(theirs) == wanted for theirs in permutations(other))
 
 
+def form_of(level, coloured):
+    """The same for two dicts of places and their colours exactly if they can be exchanged down to a level."""
+    if level == 0 or len(coloured) < 2:
+        return "(" + " ".join(sorted(str(colour) for colour in coloured.values())) + ")"
+    halves = [{place // 2: colour for place, colour in coloured.items() if place % 2 == bit} for bit in (0, 1)]
+    return "(" + " ".join(sorted(form_of(level - 1, half) for half in halves)) + ")"
+
+
+def first_arrangement(level, one, other):
+    """The first list of the others that part as the places do, in their order, down to a level; None if none does."""
+    ours, theirs = dict.fromkeys(one, 0), dict.fromkeys(other, 0)
+    if form_of(level, ours) != form_of(level, theirs):
+        return None
+    for turn, place in enumerate(one, 1):
+        # what belongs to one another has a colour of its own
+        ours[place] = turn
+        wanted = form_of(level, ours)
+        left = [partner for partner in other if theirs[partner] == 0]
+        theirs[next(one for one in left if form_of(level, {**theirs, one: turn}) == wanted)] = turn
+    return sorted(other, key=theirs.get)
+
+
 def product_of(taken, number):
     result = 1
     for place in taken:

@@ -7,7 +7,7 @@ from anyplaces.errors import InvalidPlaces, InvalidWidth
 from anyplaces.orders import good_order
 from anyplaces.sizes import how_many_codewords
 from anyplaces.telling import is_base, is_telling
-from tests.plain import alike_down_to, exchanges, lists_of_places, twos
+from tests.plain import alike_down_to, exchanges, first_arrangement, form_of, lists_of_places, twos
 from tests.wrong import NO_WIDTHS, check_refusals, no_places
 
 
@@ -25,6 +25,28 @@ def pairs_to_try():
             factor, step = chance.choice([1, 3, 5, 7]), chance.randrange(16)
             pairs.append((one, sorted((factor * place + step) % 16 for place in one)))
     return pairs
+
+
+def larger_pairs():
+    """Pairs of lists of some more places, alike and nearly so, with their widths."""
+    chance = random.Random(25)
+    pairs = []
+    for width, many in [(4, 9), (4, 12), (5, 10), (6, 8), (64, 9), (64, 12)] * 8:
+        shift = chance.choice([0, 0, width - 4])
+        one = sorted({chance.getrandbits(4 if shift else width) << shift for _ in range(many)})
+        factor, step = 2 * chance.getrandbits(width - 1) + 1, chance.getrandbits(width)
+        other = [(factor * place + step) % 2 ** width for place in one]
+        pairs.append((width, one, sorted(other)))
+        other[-1] ^= 2 ** chance.randrange(width)
+        if len(set(other)) == len(one):
+            pairs.append((width, one, sorted(other)))
+    return pairs
+
+
+def unlike_levels(width, one, other):
+    """The levels down to which places are not alike."""
+    ours, theirs = dict.fromkeys(one, 0), dict.fromkeys(other, 0)
+    return [level for level in range(width + 1) if form_of(level, ours) != form_of(level, theirs)]
 
 
 class TestExamples(unittest.TestCase):
@@ -51,6 +73,7 @@ class TestExchange(unittest.TestCase):
             self.assertIs(are_alike(4, one, other), len(listed) > 0)
             self.assertEqual(exchange(4, one, other), min(listed) if listed else None)
             self.assertEqual(exchange(64, one, other), min(listed) if listed else None)
+            self.assertEqual(first_arrangement(4, one, other), min(listed) if listed else None)
         self.assertGreater(found, 50)
 
     def test_all_of_width_three(self):
@@ -69,6 +92,15 @@ class TestExchange(unittest.TestCase):
             back = [one[theirs.index(place)] for place in other]
             self.assertIn(back, exchanges(other, one))
             self.assertLessEqual(exchange(4, other, one), back)
+
+    def test_in_turn(self):
+        found = 0
+        for width, one, other in larger_pairs():
+            first = first_arrangement(width, one, other)
+            found += first is not None
+            self.assertEqual(exchange(width, one, other), first)
+            self.assertIs(are_alike(width, one, other), first is not None)
+        self.assertTrue(48 <= found < len(larger_pairs()))
 
     def test_many_places(self):
         chance = random.Random(22)
@@ -111,11 +143,23 @@ class TestPartingLevel(unittest.TestCase):
         for one, other in pairs_to_try():
             if len(one) < 6:
                 unlike = [level for level in range(5) if not alike_down_to(level, one, other)]
+                # the plain means of the larger pairs are checked here, too
+                self.assertEqual(unlike_levels(4, one, other), unlike)
                 level = parting_level(4, one, other)
                 self.assertEqual(level, unlike[0] if unlike else None)
                 self.assertIs(level is None, are_alike(4, one, other))
                 levels[level] = True
         self.assertEqual(set(levels), {None, 1, 2, 3})
+
+    def test_each_level(self):
+        levels = {}
+        for width, one, other in larger_pairs():
+            unlike = unlike_levels(width, one, other)
+            self.assertEqual(parting_level(width, one, other), unlike[0] if unlike else None)
+            # what is not alike down to a level is so down to no greater one
+            self.assertEqual(unlike, list(range(width + 1 - len(unlike), width + 1)))
+            levels[unlike[0] if unlike else None] = True
+        self.assertGreater(len(levels), 5)
 
     def test_unlike_numbers_of_places(self):
         for width in [2, 3, 64]:

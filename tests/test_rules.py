@@ -146,6 +146,14 @@ class TestGreatest(unittest.TestCase):
             self.assertGreater(self.quick(how_many_alike, 64, places), 0)
             self.assertEqual(self.quick(first_alike, 64, places), first_alike(64, other))
 
+    def test_exchange_again_and_again(self):
+        # one call alone is soon through; what a caller asks often adds up
+        begun = time.monotonic()
+        for _ in range(100):
+            for places in [list(range(64)), [k * 2 ** 58 for k in range(64)]]:
+                self.assertEqual(exchange(64, places, places), places)
+        self.assertLess(time.monotonic() - begun, self.SECONDS)
+
     def test_codes(self):
         for places in greatest_places():
             for count in [64, GREATEST]:
