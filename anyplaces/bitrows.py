@@ -14,7 +14,7 @@ def bits_at_place(plan, place):
 def packed_rows(plan):
     """Returns for each item the number whose figures, in twos, are its bits at the places, the lowest one first."""
     rows = [0] * plan.many
-    for at, place in enumerate(plan.places):
+    for at, place in enumerate(plan.code_places):
         for k, bit in enumerate(bits_at_place(plan, place)):
             rows[k] += bit << at
     return rows

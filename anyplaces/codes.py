@@ -3,20 +3,13 @@
 from anyplaces.demands import need_words
 from anyplaces.errors import InvalidItems
 from anyplaces.plans import item_bits, plan_of, read_off, words_of_items
-from anyplaces.values import are_words_at, fits_word
-
-
-def are_items(plan, value):
-    """Returns whether a value is an items list of a code."""
-    bits = item_bits(plan)
-    if not isinstance(value, list) or len(value) != len(bits):
-        return False
-    return all([fits_word(many, item) for many, item in zip(bits, value)])
+from anyplaces.polynomials import multiplied_out
+from anyplaces.values import are_numbers_of, are_words_at
 
 
 def need_items(plan, items):
     """Raises InvalidItems unless this is an items list of the code."""
-    if not are_items(plan, items):
+    if not are_numbers_of(item_bits(plan), items):
         raise InvalidItems(items)
 
 
@@ -47,27 +40,8 @@ def misfit(width, places, count, words):
     return read_off(plan, words)[1]
 
 
-def times_less(coefficients, place):
-    """Returns the coefficients of a polynomial times the difference of X and a place."""
-    raised = [0] + coefficients
-    lowered = [-place * coefficient for coefficient in coefficients] + [0]
-    return [up + down for up, down in zip(raised, lowered)]
-
-
-def without_last_zeros(coefficients):
-    """Returns the coefficients up to the last one that is not 0."""
-    many = len(coefficients)
-    while many > 0 and coefficients[many - 1] == 0:
-        many -= 1
-    return coefficients[:many]
-
-
 def coefficients_of(width, places, count, items):
     """Returns the coefficients of the sum that an items list stands for, not taken by any power of 2."""
     plan = plan_of(width, places, count)
     need_items(plan, items)
-    coefficients = [0]
-    for k in reversed(range(plan.many)):
-        coefficients = times_less(coefficients, plan.order[k])
-        coefficients[0] += items[k]
-    return without_last_zeros(coefficients)
+    return multiplied_out(plan.order, items)

@@ -14,7 +14,7 @@ from anyplaces.values import WIDEST, are_words_at, is_between, is_whole, widths_
 
 def lost_of(plan):
     """Returns as few places as can be whose loss leaves a part that is not telling, None if every part is."""
-    return lost_parts(branch_of(plan.places), [plan.many])[plan.many]
+    return lost_parts(branch_of(plan.code_places), [plan.many])[plan.many]
 
 
 def distance_of(plan):

@@ -3,7 +3,7 @@
 from anyplaces.demands import need_code, need_count, need_known, need_words
 from anyplaces.errors import InvalidNumber
 from anyplaces.plans import plan_of
-from anyplaces.reading import Reading, bits_left, fit_with, fitting_reading, possible_at
+from anyplaces.reading import Reading, ahead_of, bits_left, fit_with, fitting_reading
 
 
 def fits(width, places, count, known):
@@ -39,21 +39,6 @@ def how_many_ahead(width, places, count, known, words):
     plan = plan_of(width, places, count)
     need_known(width, places, known)
     need_words(width, places, words)
-    told = dict(known)
-    reading = Reading(width, count, told)
-    if reading.found is None:
+    if Reading(width, count, dict(known)).found is None:
         return 0
-    ahead = 0
-    left = bits_left(plan, reading.plan)
-    for place, word in zip(places, words):
-        least, bits = possible_at(reading, place)
-        step = 1 << bits
-        left -= width - bits
-        # the least word and so many more ones, each a step further, are below the word
-        ahead += ((word - least + step - 1) >> bits) << left
-        if (word - least) & (step - 1):
-            return ahead
-        if bits < width:
-            told[place] = word
-            reading = Reading(width, count, told)
-    return ahead
+    return ahead_of(plan, known, words)

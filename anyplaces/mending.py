@@ -13,7 +13,7 @@ from anyplaces.values import are_words_at
 def mendable_of(plan):
     """Returns how many words of a code may be wrong, so that the codeword is still the only near one."""
     least = distance_of(plan)
-    return len(plan.places) if least is None else (least - 1) // 2
+    return len(plan.code_places) if least is None else (least - 1) // 2
 
 
 def mendable(width, places, count):

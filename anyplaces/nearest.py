@@ -15,24 +15,24 @@ def are_neighbours(places):
 def blocks_of(plan):
     """Returns the list of the blocks of neighbours, each of them with as many places as there are items."""
     many = plan.many
-    return [plan.places[number * many:(number + 1) * many] for number in range(len(plan.places) // many)]
+    return [plan.code_places[number * many:(number + 1) * many] for number in range(len(plan.code_places) // many)]
 
 
 def bases_left(plan, most):
     """Returns bases such that, whichever places are lost, as many as told, one of the bases is left."""
     rows = packed_rows(plan)
-    ats = list(range(len(plan.places)))
+    ats = list(range(len(plan.code_places)))
     bases = {}
     for lost in combinations(ats, most):
         bases[tuple(reduced_rows(rows, [at for at in ats if at not in lost]))] = True
-    return [[plan.places[at] for at in base] for base in bases]
+    return [[plan.code_places[at] for at in base] for base in bases]
 
 
 def codeword_by(plan, part, words):
     """Returns the codeword that has the words at a telling part, None if no codeword has them there."""
-    told = dict(zip(plan.places, words))
-    reading = Reading(plan.width, plan.count, {place: told[place] for place in part})
-    return None if reading.found is None else words_from(reading, plan.places)
+    told = dict(zip(plan.code_places, words))
+    reading = Reading(plan.code_width, plan.code_count, {place: told[place] for place in part})
+    return None if reading.found is None else words_from(reading, plan.code_places)
 
 
 def how_many_unlike(words, others):
@@ -44,8 +44,8 @@ def nearest_codeword(plan, words):
     """Returns the codeword that words are near to, None if there is none."""
     least = distance_of(plan)
     if least is None:
-        return [0] * len(plan.places)
-    parts = blocks_of(plan) if are_neighbours(plan.places) else bases_left(plan, (least - 1) // 2)
+        return [0] * len(plan.code_places)
+    parts = blocks_of(plan) if are_neighbours(plan.code_places) else bases_left(plan, (least - 1) // 2)
     for part in parts:
         found = codeword_by(plan, part, words)
         if found is not None and 2 * how_many_unlike(found, words) < least:

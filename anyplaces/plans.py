@@ -8,9 +8,9 @@ class Plan:
     """A code: its width, its places in their good order with their numbers, its count, and how many items it has."""
 
     def __init__(self, width, places, count):
-        self.width = width
-        self.places = places
-        self.count = count
+        self.code_width = width
+        self.code_places = places
+        self.code_count = count
         self.order, self.numbers = ordered(places)
         self.many = how_many_items(width, self.numbers, count)
 
@@ -31,12 +31,12 @@ def product_at(taken, number):
 
 def item_bits(plan):
     """Returns the list of how many bits each item has."""
-    return [plan.width - plan.numbers[k] for k in range(plan.many)]
+    return [plan.code_width - plan.numbers[k] for k in range(plan.many)]
 
 
 def word_of_items(plan, items, number):
     """Returns the word that the sum of the first items, as many as are told, has at a number."""
-    mask = (1 << plan.width) - 1
+    mask = (1 << plan.code_width) - 1
     word = 0
     for k in reversed(range(len(items))):
         word = (word * (number - plan.order[k]) + items[k]) & mask
@@ -45,7 +45,7 @@ def word_of_items(plan, items, number):
 
 def words_of_items(plan, items):
     """Returns the words that the sum of the items has at the places, in their ascending order."""
-    return [word_of_items(plan, items, place) for place in plan.places]
+    return [word_of_items(plan, items, place) for place in plan.code_places]
 
 
 def inverse_of(odd, bits):
@@ -63,14 +63,14 @@ def item_for(plan, k, lacking):
     number = plan.numbers[k]
     if lacking & ((1 << number) - 1):
         return None
-    bits = plan.width - number
+    bits = plan.code_width - number
     odd = product_at(plan.order[:k], plan.order[k]) >> number
     return (lacking >> number) * inverse_of(odd, bits) & ((1 << bits) - 1)
 
 
 def read_off(plan, words):
     """Returns a tuple of the items list of words and the first place that no codeword goes with; one is None."""
-    told = dict(zip(plan.places, words))
+    told = dict(zip(plan.code_places, words))
     items = []
     for k, place in enumerate(plan.order):
         lacking = told[place] - word_of_items(plan, items, place)

@@ -13,12 +13,12 @@ class Reading:
 
     def __init__(self, width, count, told):
         self.plan = Plan(width, sorted(told), count)
-        self.found, self.misfit = read_off(self.plan, [told[place] for place in self.plan.places])
+        self.found, self.misfit = read_off(self.plan, [told[place] for place in self.plan.code_places])
 
 
 def fitting_reading(plan, known):
     """Returns the reading of known words of a code; raises Unfit if no codeword has them."""
-    reading = Reading(plan.width, plan.count, dict(known))
+    reading = Reading(plan.code_width, plan.code_count, dict(known))
     if reading.found is None:
         raise Unfit(reading.misfit)
     return reading
@@ -31,15 +31,15 @@ def bits_left(plan, asked_plan):
 
 def told_at(plan, place):
     """Returns how many of the lowest bits of the word at any place the words at the places of a plan tell."""
-    told = plan.width
+    told = plan.code_width
     twos = 0
-    for number, other in list(zip(plan.numbers, plan.order))[:plan.count]:
-        told = min(told, twos + max(0, plan.width - number))
+    for number, other in list(zip(plan.numbers, plan.order))[:plan.code_count]:
+        told = min(told, twos + max(0, plan.code_width - number))
         if other == place:
             # all further products are 0 there
             return told
         twos += twos_of(place - other)
-    if len(plan.order) < plan.count:
+    if len(plan.order) < plan.code_count:
         told = min(told, twos)
     return told
 
@@ -61,11 +61,32 @@ def fit_with(plan, known, number):
     told = dict(known)
     reading = fitting_reading(plan, known)
     left = bits_left(plan, reading.plan)
-    for place in plan.places:
+    for place in plan.code_places:
         word, bits = possible_at(reading, place)
-        free = plan.width - bits
+        free = plan.code_width - bits
         if free > 0:
             left -= free
             told[place] = word + ((number >> left & ((1 << free) - 1)) << bits)
-            reading = Reading(plan.width, plan.count, told)
-    return words_from(reading, plan.places)
+            reading = Reading(plan.code_width, plan.code_count, told)
+    return words_from(reading, plan.code_places)
+
+
+def ahead_of(plan, known, words):
+    """Returns how many codewords with known words, which fit, are ahead of a list of words."""
+    told = dict(known)
+    reading = fitting_reading(plan, known)
+    ahead = 0
+    left = bits_left(plan, reading.plan)
+    for place, word in zip(plan.code_places, words):
+        least, bits = possible_at(reading, place)
+        free = plan.code_width - bits
+        step = 1 << bits
+        left -= free
+        # the least word and so many more ones, each a step further, are below the word
+        ahead += ((word - least + step - 1) >> bits) << left
+        if (word - least) & (step - 1):
+            return ahead
+        if free > 0:
+            told[place] = word
+            reading = Reading(plan.code_width, plan.code_count, told)
+    return ahead

@@ -28,7 +28,7 @@ def tells_all(plan, part):
 
 def is_base_of(plan, value):
     """Returns whether a value is a telling part with as few places as can be."""
-    return are_some_of(plan.places, value) and len(value) == plan.many and tells_all(plan, value)
+    return are_some_of(plan.code_places, value) and len(value) == plan.many and tells_all(plan, value)
 
 
 def is_telling(width, places, count, part):
@@ -44,9 +44,9 @@ def hidden_of(plan, part):
     k = gap_in(plan, numbers)
     if k is None:
         return None
-    number = min(plan.width, numbers[k]) if k < len(numbers) else plan.width
-    mask = (1 << plan.width) - 1
-    return [(product_at(order[:k], place) << (plan.width - number)) & mask for place in plan.places]
+    number = min(plan.code_width, numbers[k]) if k < len(numbers) else plan.code_width
+    mask = (1 << plan.code_width) - 1
+    return [(product_at(order[:k], place) << (plan.code_width - number)) & mask for place in plan.code_places]
 
 
 def hidden(width, places, count, part):

@@ -25,7 +25,7 @@ def fits_width(value):
 
 
 def fits_word(width, value):
-    """Returns whether a value is a word of a width."""
+    """Returns whether a value is a word of a width, which may be 0 here: then 0 is the only one."""
     return is_between(value, 0, (1 << width) - 1)
 
 
@@ -48,6 +48,13 @@ def are_wholes(value):
 def are_words(width, value):
     """Returns whether a value is a list of words of a width, perhaps empty."""
     return isinstance(value, list) and all([fits_word(width, word) for word in value])
+
+
+def are_numbers_of(bits, value):
+    """Returns whether a value is a list of numbers, each of at most as many bits as are told for it."""
+    if not isinstance(value, list) or len(value) != len(bits):
+        return False
+    return all([fits_word(many, number) for many, number in zip(bits, value)])
 
 
 def climbs(numbers):
@@ -97,3 +104,10 @@ def are_known(width, places, value):
 def are_prices(places, value):
     """Returns whether a value is a list of as many counts as there are places."""
     return isinstance(value, list) and len(value) == len(places) and all([is_count(price) for price in value])
+
+
+def are_table(width, rows, columns, value):
+    """Returns whether a value is a list with a list for each row of a word of the width for each column."""
+    if not isinstance(value, list) or len(value) != len(rows):
+        return False
+    return all([are_words_at(width, columns, words) for words in value])

@@ -13,8 +13,8 @@ BUILTINS = {
 }
 METHODS = {
     "append", "clear", "copy", "count", "endswith", "extend", "find", "get", "index", "insert", "isdigit", "items",
-    "join", "keys", "pop", "remove", "replace", "reverse", "setdefault", "split", "startswith", "strip", "update",
-    "values", "bit_length", "__init__",
+    "join", "keys", "partition", "pop", "remove", "replace", "reverse", "setdefault", "split", "startswith", "strip",
+    "update", "values", "bit_length", "__init__",
 }
 BARRED = {
     "register", "mro", "elements", "open", "input", "law", "id", "type", "vars", "dir", "eval", "exec", "exit", "help",
@@ -141,10 +141,33 @@ class TestStatements(unittest.TestCase):
     def test_module_level(self):
         plain = (ast.ImportFrom, ast.FunctionDef, ast.ClassDef, ast.Assign, ast.Expr)
         for name, tree in trees():
+            functions = [node.name for node in tree.body if isinstance(node, ast.FunctionDef)]
             for node in tree.body:
                 self.assertIsInstance(node, plain, name)
-                if isinstance(node, (ast.Assign, ast.Expr)):
+                if isinstance(node, ast.Assign) and isinstance(node.value, ast.Dict):
+                    # a table of plain values, or of functions that stand above it
+                    self.assertTrue(all(isinstance(key, ast.Constant) for key in node.value.keys), name)
+                    named = [worth for worth in node.value.values if not isinstance(worth, ast.Constant)]
+                    self.assertTrue(all(isinstance(worth, ast.Name) and worth.id in functions for worth in named), name)
+                elif isinstance(node, (ast.Assign, ast.Expr)):
                     self.assertIsInstance(node.value, ast.Constant, name)
+
+    def test_methods(self):
+        # no attribute has the name of a method, and no method is read off a class
+        methods, attributes, classes = set(), set(), set()
+        for _, tree in trees():
+            for node in ast.walk(tree):
+                if isinstance(node, ast.ClassDef):
+                    classes.add(node.name)
+                    methods |= {one.name for one in node.body if isinstance(one, ast.FunctionDef)}
+                elif isinstance(node, ast.Attribute) and isinstance(node.ctx, ast.Store):
+                    attributes.add(node.attr)
+        self.assertLessEqual({one for one in methods if one.startswith("__")}, {"__init__", "__eq__"})
+        self.assertEqual(methods & attributes, set())
+        for name, tree in trees():
+            for node in ast.walk(tree):
+                if isinstance(node, ast.Attribute) and isinstance(node.value, ast.Name) and node.value.id in classes:
+                    self.assertEqual(node.attr, "__init__", name)
 
     def test_calls(self):
         for name, tree in trees():

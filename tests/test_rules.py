@@ -4,20 +4,28 @@ import random
 import time
 import unittest
 
+from anyplaces.alarms import alike_change, look_alikes, unseen
 from anyplaces.alike import are_alike, exchange, first_alike, how_many_alike, parting_level
 from anyplaces.bases import (
     all_bases, always_read, base_numbered, cheapest_base, how_many_bases, is_cheapest, put_in_for, splits,
     telling_counts,
 )
 from anyplaces.bits import bits_told, closure, low_bits, low_by_low, possible, told_bits, untold
+from anyplaces.checks import alarm, alarms, check_of, check_parts, how_many_checks, is_check, triangle
 from anyplaces.codes import codeword, coefficients_of, is_codeword, items_of, misfit
 from anyplaces.distance import (
     by_widths, distance, how_many_light, hurting, is_lightest, least_lost, lightest, neighbour_distance,
 )
 from anyplaces.errors import TooMany
 from anyplaces.fitting import fit_numbered, fits, how_many_ahead, how_many_fit
+from anyplaces.grids import (
+    filled_grid, grid_distance, grid_items, grid_size, grid_word, how_many_both, is_grid_word, light_grid,
+    meeting_tells, numbers_of,
+)
 from anyplaces.helpers import fewest_helpers, follows, helpers, is_helpers, reach, steps_needed
+from anyplaces.joined import beside_at, how_many_beside, number_beside, part_bits, said_bits
 from anyplaces.kinds import is_known, is_places, is_words, parting_places, words_at
+from anyplaces.lines import line_of, of_line
 from anyplaces.lowbits import mendable_bits, mended_bits
 from anyplaces.mending import (
     block_counts, clean_block, is_mended, mendable, mendable_left, mended, mended_known, wrong_at,
@@ -26,7 +34,9 @@ from anyplaces.orders import good_order, how_many_even, is_good_order, least_two
 from anyplaces.sizes import (
     codeword_at, codeword_number, full_count, how_many_codewords, item_count, item_widths, width_for,
 )
+from anyplaces.store import Store, is_deed
 from anyplaces.telling import bit_rows, first_base, hidden, is_base, is_telling
+from anyplaces.within import first_above, how_many_above, how_many_stretched, least_count, stretched_coefficients
 from tests.calls import FILES, right_calls
 from tests.wrong import GREATEST
 
@@ -87,7 +97,7 @@ class TestLists(unittest.TestCase):
 
     def test_kinds_of_answers(self):
         # what tells whether something is so is a Boolean, and nothing else is one
-        whether = {"are_alike", "fits", "follows"}
+        whether = {"are_alike", "fits", "follows", "meeting_tells"}
         for function, arguments in right_calls():
             answer = function(**arguments)
             told = function.__name__.startswith("is_") or function.__name__ in whether
@@ -286,6 +296,107 @@ class TestGreatest(unittest.TestCase):
                 if len(places) == 64:
                     counts = self.quick(block_counts, 64, places, count, wrong)
                     self.assertEqual(counts[self.quick(clean_block, 64, places, count, wrong)], many)
+
+    def test_checks(self):
+        for places in greatest_places():
+            for count in [0, 3, 40, 64, GREATEST]:
+                rows = self.quick(triangle, 64, places, count)
+                many = self.quick(how_many_checks, 64, places, count)
+                check = [sum(column) % 2 ** 64 for column in zip(*rows)]
+                self.assertTrue(self.quick(is_check, 64, places, count, check))
+                parts = self.quick(check_parts, 64, places, count, check)
+                self.assertEqual(self.quick(check_of, 64, places, count, parts), check)
+                words = codeword_at(64, places, count, how_many_codewords(64, places, count) // 3)
+                self.assertEqual(many * how_many_codewords(64, places, count), 2 ** 4096)
+                self.assertIsNone(self.quick(alarm, 64, places, count, words))
+                words[-1] ^= 1
+                told = self.quick(alarms, 64, places, count, words)
+                first = self.quick(alarm, 64, places, count, words)
+                self.assertEqual(first, next(((k, word) for k, word in enumerate(told) if word), None))
+                self.assertIn(self.quick(unseen, 64, places, count, places[-1]), [None] + [2 ** k for k in range(64)])
+
+    def test_look_alikes(self):
+        for places in greatest_places():
+            for count in [1, 3, 12, GREATEST]:
+                for some in [places[:24], places[::3], places[-24:]]:
+                    pairs = self.quick(look_alikes, 64, some, count)
+                    told = self.quick(alike_change, 64, some, count, some[0], some[-1])
+                    self.assertIs(told is not None, (some[0], some[-1]) in pairs)
+
+    def test_within(self):
+        for places in greatest_places():
+            for count in [3, 40, GREATEST]:
+                words = codeword_at(64, places, count, how_many_codewords(64, places, count) * 2 // 3)
+                self.assertLessEqual(self.quick(least_count, 64, places, words), count)
+                for bits in [1, 20, 64]:
+                    lows = [word % 2 ** bits for word in words]
+                    self.assertGreater(self.quick(how_many_above, 64, places, count, bits, lows), 0)
+                    first = self.quick(first_above, 64, places, count, bits, lows)
+                    self.assertEqual([word % 2 ** bits for word in first], lows)
+                for bits in [0, 1, 64]:
+                    self.quick(stretched_coefficients, 64, places, count, bits, words)
+                    self.assertGreater(self.quick(how_many_stretched, 64, places, count, bits), 0)
+
+    def test_joined(self):
+        for places in greatest_places():
+            for count in [3, 40, GREATEST]:
+                words = codeword_at(64, places, count, how_many_codewords(64, places, count) * 2 // 3)
+                for asked, part in [([], places), (places[1:2], places[7:50:5]), (places[7:50:5], places[::2]), (places, places)]:
+                    known = [(place, words[places.index(place)]) for place in asked]
+                    mine = [words[places.index(place)] for place in part]
+                    many = self.quick(how_many_beside, 64, places, count, known, part)
+                    number = self.quick(number_beside, 64, places, count, known, part, mine)
+                    self.assertLess(number, many)
+                    self.assertEqual(self.quick(beside_at, 64, places, count, known, part, number), mine)
+                    self.assertLessEqual(self.quick(said_bits, 64, places, count, part, asked, places[20:40]),
+                                         self.quick(part_bits, 64, places, count, part))
+
+    def test_grids(self):
+        lists = [places[:40] for places in greatest_places()] + [places[::-2][::-1] for places in greatest_places()]
+        for rows, columns in zip(lists, lists[1:] + lists[:1]):
+            for counts in [(3, 5), (40, 2), (GREATEST, GREATEST)]:
+                grid = (64, rows, columns, *counts)
+                self.assertGreater(self.quick(grid_size, *grid), 1)
+                self.assertGreater(self.quick(how_many_both, *grid), 1)
+                orders = good_order(64, rows)[1], good_order(64, columns)[1]
+                numbers = [2 ** (64 - orders[0][i] - orders[1][j]) - 1 for i, j in self.quick(grid_items, *grid)]
+                table = self.quick(grid_word, *grid, numbers)
+                self.assertEqual(self.quick(numbers_of, *grid, table), numbers)
+                self.assertTrue(self.quick(is_grid_word, *grid, table))
+                self.assertTrue(self.quick(meeting_tells, *grid, rows, columns))
+                self.assertEqual(self.quick(filled_grid, *grid, rows, columns, table), table)
+                light = self.quick(light_grid, *grid)
+                self.assertEqual(sum(word > 0 for words in light for word in words), self.quick(grid_distance, *grid))
+
+    def test_lines(self):
+        for places in greatest_places():
+            known = [(place, 2 ** 64 - 1) for place in places]
+            line = self.quick(line_of, 64, places, GREATEST, known)
+            self.assertEqual(self.quick(of_line, line), (64, places, GREATEST, known))
+
+    def test_store(self):
+        for places in greatest_places():
+            store = Store(64, places[:63], 40)
+            words = codeword_at(64, places[:63], 40, how_many_codewords(64, places[:63], 40) // 3)
+            begun = time.monotonic()
+            for place, word in list(zip(places, words))[::2]:
+                store.do(("set", place, word))
+            for deed in [("fill",), ("put", places[63]), ("count", GREATEST), ("take", places[3])]:
+                self.assertTrue(is_deed(store, deed))
+                store.do(deed)
+            # many deeds, and all of them back and again
+            for k in range(3000):
+                store.do(("set", places[0], words[0] ^ k & 1))
+            self.assertEqual(len(store.log()), 3036)
+            self.assertEqual(store.copy(), store)
+            self.assertIs(store.choices() == 1, store.told() == store.places())
+            for _ in range(3036):
+                store.undo()
+            for _ in range(3036):
+                store.redo()
+            store.undo()
+            self.assertGreater(store.choices(), 0)
+            self.assertLess(time.monotonic() - begun, self.SECONDS)
 
 
 if __name__ == "__main__":

@@ -1,6 +1,7 @@
 """Wrong values for all kinds of arguments, and checking that each is refused as the document tells."""
 
 from anyplaces.errors import CodeError, InvalidNumber, InvalidWidth, NothingToUndo, Unfit
+from anyplaces.store import Store
 
 GREATEST = 10 ** 30 - 1
 
@@ -18,6 +19,7 @@ ODD = [
     [None], [True], [False], ["0"], [[0]], [[]], [(0,)], [(0, True)], [(True, 0)], [("0", 0)], [(0, 0, 0)], [[0, 0]],
     [{}], [0, None], [0, "1"], [0, True], [False, 1], [0, [1]], [0, (1,)], [0, 1, {}],
     CodeError(), InvalidWidth(3), Unfit(0), NothingToUndo(), [InvalidNumber(0)], (Unfit([0]),),
+    Store(3, [0], 1), [Store(3, [0], 1)], (Store(3, [0], 1), 0), [0, Store(1, [0, 1], 0)],
     nested(list), nested(tuple), nested(dict),
 ]
 
