@@ -7,7 +7,7 @@ from anyplaces.reading import Reading, ahead_of, bits_left, fit_with, fitting_re
 from anyplaces.values import are_words_at
 
 
-def bits_at(width, count, part):
+def bits_of_part(width, count, part):
     """Returns how many bits the words at a part have."""
     return sum(item_bits(Plan(width, part, count)))
 
@@ -16,7 +16,7 @@ def part_bits(width, places, count, part):
     """Returns how many bits the words at a part have."""
     need_code(width, places, count)
     need_part(places, part)
-    return bits_at(width, count, part)
+    return bits_of_part(width, count, part)
 
 
 def union_of(part, other):
@@ -32,8 +32,8 @@ def said_bits(width, places, count, one, other, third):
     need_part(places, third)
     with_one = union_of(one, third)
     with_other = union_of(other, third)
-    apart = bits_at(width, count, with_one) + bits_at(width, count, with_other)
-    return apart - bits_at(width, count, union_of(with_one, with_other)) - bits_at(width, count, third)
+    apart = bits_of_part(width, count, with_one) + bits_of_part(width, count, with_other)
+    return apart - bits_of_part(width, count, union_of(with_one, with_other)) - bits_of_part(width, count, third)
 
 
 def beside_plan(width, count, known, part):

@@ -95,6 +95,16 @@ class TestLists(unittest.TestCase):
             self.assertEqual(again, kept, function.__name__)
             self.assertEqual(again.__class__, kept.__class__)
 
+    def test_whatever_lies_between(self):
+        answers = [function(**arguments) for function, arguments in right_calls()]
+        order = list(range(len(answers)))
+        for seed in range(3):
+            random.Random(seed).shuffle(order)
+            calls = right_calls()
+            for at in order:
+                function, arguments = calls[at]
+                self.assertEqual(function(**arguments), answers[at], function.__name__)
+
     def test_kinds_of_answers(self):
         # what tells whether something is so is a Boolean, and nothing else is one
         whether = {"are_alike", "fits", "follows", "meeting_tells"}

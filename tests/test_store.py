@@ -211,6 +211,36 @@ class TestBesideAPlainOne(unittest.TestCase):
                         self.assertIs(store == other, same)
                         self.assertIs(store != other, not same)
 
+    def test_copies_do_again_what_was_undone(self):
+        store = Store(3, FOUR, 2)
+        for deed in [("set", 0, 5), ("set", 1, 6), ("count", 1), ("take", 2)]:
+            store.do(deed)
+        whole = store.copy()
+        store.undo()
+        store.undo()
+        store.undo()
+        twin = store.copy()
+        # neither takes from the other what it can do again, or gives it more
+        twin.redo()
+        twin.redo()
+        store.undo()
+        self.assertEqual((store.log(), len(twin.log())), ([], 3))
+        twin.redo()
+        self.assertEqual(twin, whole)
+        self.assertRaises(NothingToRedo, twin.redo)
+        for many in [1, 2, 3, 4]:
+            store.redo()
+            self.assertEqual(len(store.log()), many)
+        self.assertEqual(store, whole)
+        self.assertRaises(NothingToRedo, store.redo)
+        # a new deed in one leaves the other one what was undone
+        store.undo()
+        twin = store.copy()
+        store.do(("lose", 0))
+        self.assertRaises(NothingToRedo, store.redo)
+        twin.redo()
+        self.assertEqual(twin, whole)
+
     def test_all_back_and_again(self):
         for seed in range(6):
             chance = random.Random(2100 + seed)
